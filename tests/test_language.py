@@ -1,0 +1,124 @@
+"""The rules of LANGUAGE.md that can be asked of the text of the files: L1, L2, L4, L7, L8, L10, L14 and L25."""
+
+import ast
+import builtins
+import pathlib
+import unittest
+
+import drawnrings
+
+FOLDER = pathlib.Path(drawnrings.__file__).parent
+
+BUILTINS = set(
+    "len range enumerate zip min max sum abs sorted reversed int str bool bytes list tuple dict set frozenset "
+    "isinstance ord repr any all divmod pow iter next getattr hasattr setattr type map property staticmethod "
+    "classmethod super Exception ValueError TypeError KeyError IndexError LookupError ZeroDivisionError "
+    "ArithmeticError OverflowError RuntimeError NotImplementedError AttributeError StopIteration "
+    "NotImplemented".split(" ")
+)
+
+METHODS = set(
+    "append clear copy count endswith extend find get index insert isalnum isalpha isdigit islower isspace isupper "
+    "items join keys ljust lower lstrip partition pop remove replace reverse rfind rjust rpartition rsplit rstrip "
+    "setdefault split splitlines startswith strip update upper values zfill bit_length title capitalize swapcase "
+    "casefold center expandtabs removeprefix removesuffix rindex isascii isdecimal isnumeric istitle isidentifier "
+    "isprintable translate maketrans encode decode hex add discard sort format popleft appendleft extendleft "
+    "rotate from_iterable".split(" ")
+)
+
+LIBRARY = ("__future__", "collections", "heapq", "itertools", "math")
+
+DECORATORS = ("property", "staticmethod", "classmethod")
+
+
+def files():
+    return sorted(path for path in FOLDER.rglob("*") if path.is_file() and "__pycache__" not in path.parts)
+
+
+def sources():
+    return [(path.name, path.read_text(encoding="utf-8")) for path in files()]
+
+
+def trees():
+    return [(name, list(ast.walk(ast.parse(text)))) for name, text in sources()]
+
+
+def functions(nodes):
+    return [node for node in nodes if isinstance(node, ast.FunctionDef)]
+
+
+class Language(unittest.TestCase):
+    def test_only_python_files_with_plain_names(self):
+        self.assertTrue((FOLDER / "__init__.py").is_file())
+        for path in files():
+            with self.subTest(path.name):
+                self.assertEqual(path.suffix, ".py")
+                self.assertRegex(path.stem, r"\A[a-z0-9_]+\Z")
+
+    def test_sizes(self):
+        for name, text in sources():
+            with self.subTest(name):
+                self.assertLessEqual(len(text.splitlines()), 399)
+                self.assertLessEqual(max([len(line) for line in text.splitlines()], default=0), 120)
+        for name, nodes in trees():
+            for node in functions(nodes):
+                with self.subTest(name, function=node.name):
+                    self.assertLessEqual(node.end_lineno - node.lineno + 1, 40)
+
+    def test_characters(self):
+        for name, text in sources():
+            with self.subTest(name):
+                self.assertEqual([sign for sign in text if sign != "\n" and not " " <= sign <= "~"], [])
+
+    def test_imports(self):
+        for name, nodes in trees():
+            for node in nodes:
+                if isinstance(node, ast.Import):
+                    self.assertEqual((name, [row.name for row in node.names]), ("__main__.py", ["sys"]))
+                if isinstance(node, ast.ImportFrom):
+                    with self.subTest(name, module=node.module):
+                        self.assertEqual(node.level, 0)
+                        self.assertTrue(node.module in LIBRARY or node.module.startswith("drawnrings."))
+                        self.assertNotIn("*", [row.name for row in node.names])
+
+    def test_no_floats_and_no_statements_that_are_not_allowed(self):
+        barred = (ast.AsyncFunctionDef, ast.Await, ast.Div)
+        for name, nodes in trees():
+            with self.subTest(name):
+                self.assertEqual([node for node in nodes if isinstance(node, barred)], [])
+                literals = [node.value for node in nodes if isinstance(node, ast.Constant)]
+                self.assertEqual([value for value in literals if isinstance(value, (float, complex))], [])
+
+    def test_builtins(self):
+        for name, nodes in trees():
+            if name == "__main__.py":
+                continue
+            used = {node.id for node in nodes if isinstance(node, ast.Name)} & set(dir(builtins))
+            with self.subTest(name):
+                self.assertEqual(sorted(used - BUILTINS), [])
+
+    def test_decorators(self):
+        for name, nodes in trees():
+            for node in functions(nodes):
+                for decorator in node.decorator_list:
+                    with self.subTest(name, function=node.name):
+                        setter = isinstance(decorator, ast.Attribute) and decorator.attr == "setter"
+                        self.assertTrue(setter or decorator.id in DECORATORS)
+
+    def test_methods_that_are_called(self):
+        own = {node.name for _, nodes in trees() for node in functions(nodes)}
+        stored = {
+            node.attr for _, nodes in trees() for node in nodes
+            if isinstance(node, ast.Attribute) and isinstance(node.ctx, ast.Store)
+        }
+        for name, nodes in trees():
+            if name == "__main__.py":
+                continue
+            for node in nodes:
+                if isinstance(node, ast.Call) and isinstance(node.func, ast.Attribute):
+                    with self.subTest(name, method=node.func.attr):
+                        self.assertIn(node.func.attr, METHODS | own | stored)
+
+
+if __name__ == "__main__":
+    unittest.main()
