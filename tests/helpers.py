@@ -1,5 +1,6 @@
 """What several tests need: values of all kinds, and a check that an error is just as the document tells."""
 
+import random
 import unittest
 
 from drawnrings import errors
@@ -79,3 +80,42 @@ class Case(unittest.TestCase):
             call(*args, **more)
         self.assertIs(type(caught.exception), error)
         self.assertIs(caught.exception.given, value)
+
+    def check_stretches(self, stretches):
+        """Stretches as the document tells them: a tuple of pairs that ascend and don't touch."""
+        self.assertIs(type(stretches), tuple)
+        for first, last in stretches:
+            self.assertIs(type(first), int)
+            self.assertTrue(last is None or type(last) is int and first <= last, stretches)
+        for one, other in zip(stretches, stretches[1:]):
+            self.assertLess(one[1] + 1, other[0])
+
+
+def pseudo_scripts(seed, many, most_moves, most_place, with_some=False):
+    """Rows of scripts of all kinds of moves, the same ones for the same arguments."""
+    told = random.Random(seed)
+
+    def move():
+        place = told.randint(-most_place, most_place)
+        ring = told.choice((1, 1, 1, 2, 3, 5))
+        kinds = [f"left {ring} to {place}", f"right {ring} to {place}"] * 4 + [f"carry {place}"] * 2
+        kinds += ["off left", "off right", f"on left {place}", f"on right {place}"]
+        kinds += [f"some to {place}"] * 3 * with_some
+        return told.choice(kinds)
+
+    rows = []
+    for _ in range(many):
+        near = told.randint(1, 4)
+        cloth = f"cloth {near} {near + told.randint(1, 4)}"
+        if told.random() < 0.5:
+            cloth += f" from {told.randint(-most_place, most_place)}"
+        rows.append((cloth, *[move() for _ in range(told.randint(0, most_moves))]))
+    return rows
+
+
+def numbers_in(stretches, low, high):
+    """The integers from low to high that are in one of the stretches."""
+    return [
+        number for number in range(low, high + 1)
+        if any((first is None or first <= number) and (last is None or number <= last) for first, last in stretches)
+    ]

@@ -68,3 +68,90 @@ def moved(state, move):
     if words[1] == "left":
         return cloth, drawn(cloth, (10 ** 9, *places), 0, int(words[2]))
     return cloth, drawn(cloth, (*places, -10 ** 9), len(places), int(words[2]))
+
+
+def ended(cloth, places, moves):
+    """The places behind moves that can be done."""
+    state = (cloth, places)
+    for move in moves:
+        state = moved(state, move)
+    return state[1]
+
+
+def gained(move):
+    """How many rings more there are behind a move."""
+    return {"on": 1, "off": -1}.get(move.split(" ")[0], 0)
+
+
+def choices(moves, rings):
+    """All rows of moves in which each `some` draws one of the rings that are there, from the left."""
+    rows = [()]
+    for move in moves:
+        if move.startswith("some "):
+            told = [f"left {ring} {move[5:]}" for ring in range(1, rings + 1)]
+        else:
+            told = [move]
+        rings += gained(move)
+        rows = [(*row, one) for row in rows for one in told]
+    return rows
+
+
+def first_numbers(moves, rings):
+    """The numbers from the left that the rings at the end had at first, None for those that were hooked on."""
+    numbers = list(range(1, rings + 1))
+    for move in moves:
+        if move == "off left":
+            numbers = numbers[1:]
+        elif move == "off right":
+            numbers = numbers[:-1]
+        elif move.startswith("on left "):
+            numbers = [None, *numbers]
+        elif move.startswith("on right "):
+            numbers = [*numbers, None]
+    return numbers
+
+
+def bounds(cloth, moves, rings):
+    """The bounds (S, A, B) of all rings: where they are led from standings far to the left and far to the right."""
+    gaps = range(0, rings * cloth[0], cloth[0])
+    lefts = ended(cloth, tuple([(cloth[2] if len(cloth) == 3 else -10 ** 6) + gap for gap in gaps]), moves)
+    rights = ended(cloth, tuple([10 ** 6 + gap for gap in gaps]), moves)
+    drawn_once = any(move.split(" ")[0] in ("left", "right", "on") for move in moves)
+    carried = sum(int(move.split(" ")[1]) for move in moves if move.startswith("carry "))
+    told = []
+    for low, high, number in zip(lefts, rights, first_numbers(moves, rings)):
+        if not drawn_once:
+            told.append((carried, low if len(cloth) == 3 else None, None))
+        else:
+            told.append((0 if number is None or low == high else carried, low, high))
+    return told
+
+
+def reaches(cloth, moves, rings):
+    """The pairs of the least and the greatest place of all rings, over all choices of the rings that are drawn."""
+    rows = [bounds(cloth, row, rings) for row in choices(moves, rings)]
+    told = []
+    for ring in range(len(rows[0])):
+        lows = [row[ring][1] for row in rows]
+        highs = [row[ring][2] for row in rows]
+        told.append((None if None in lows else min(lows), None if None in highs else max(highs)))
+    return told
+
+
+def outer_reaches(cloth, moves, rings):
+    """What `reaches` tells, but by the two choices that lead all rings furthest, so also for many rings."""
+    lefts = bounds(cloth, [move.replace("some ", "right 1 ") for move in moves], rings)
+    rights = bounds(cloth, [move.replace("some ", "left 1 ") for move in moves], rings)
+    return [(low[1], high[2]) for low, high in zip(lefts, rights)]
+
+
+def unlike_rings(cloth, one, other, rings):
+    """The numbers from the left of the rings that two rows of moves lead to unlike places for some standing."""
+    told = []
+    ones = zip(bounds(cloth, one, rings), first_numbers(one, rings))
+    others = zip(bounds(cloth, other, rings), first_numbers(other, rings))
+    for ring, ((told_one, number), (told_other, other_number)) in enumerate(zip(ones, others), start=1):
+        sure = told_one[1] is not None and told_one[1] == told_one[2]
+        if told_one != told_other or number != other_number and not sure:
+            told.append(ring)
+    return told
