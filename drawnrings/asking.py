@@ -30,8 +30,8 @@ def covers(script, a, b):
     """The stretches of all n for which the window is surely covered."""
     check_script(script)
     check_window(a, b)
-    firsts = first_where(script, lambda outcomes: at_most(outcomes[-1][2], a))
-    lasts = last_where(script, lambda outcomes: at_least(outcomes[0][1], b))
+    firsts = first_where(script, lambda outcomes: at_most(outcomes[-1][1], a))
+    lasts = last_where(script, lambda outcomes: at_least(outcomes[0][0], b))
     return further(in_both(firsts, lasts), script.least)
 
 
@@ -42,8 +42,8 @@ def frees(script, a, b):
     check_known(script)
     # A standing goes over into each other one in steps that no ring takes further than 1: the window is too wide
     # for the rings to be on one side of it for some standings and on the other side for all others.
-    lefts = last_where(script, lambda outcomes: at_most(outcomes[-1][2], a))
-    rights = first_where(script, lambda outcomes: at_least(outcomes[0][1], b))
+    lefts = last_where(script, lambda outcomes: at_most(outcomes[-1][1], a))
+    rights = first_where(script, lambda outcomes: at_least(outcomes[0][0], b))
     return further(joined(lefts + rights), script.least)
 
 
@@ -106,11 +106,11 @@ def dark_from(script, n):
     # No form grows with the number of rings for the first ring, nor shrinks for the last one, so in each piece it is
     # the least number of rings that tells.
     firsts = [
-        place_at(outcomes[-1][2], (1, rings + first))
+        place_at(outcomes[-1][1], (1, rings + first))
         for first, _, outcomes in pieces(lanes, (1, rings), FIRST_STEP, None)
     ]
     lasts = [
-        place_at(outcomes[0][1], (rings + first, 1))
+        place_at(outcomes[0][0], (rings + first, 1))
         for first, _, outcomes in pieces(lanes, (rings, 1), LAST_STEP, None)
     ]
     if None in firsts or None in lasts or min(lasts) < max(firsts) + 2:

@@ -27,8 +27,9 @@ def bounds(script, n, ring):
 def known_bounds(script, n, ring):
     """What bounds returns, for arguments that are valid."""
     spot = spot_of(script, n, ring)
-    _, outcomes = look(outer_lanes(script), spot)
-    return bounds_at(outcomes[0], spot)
+    lanes = outer_lanes(script)
+    _, outcomes = look(lanes, spot)
+    return bounds_at(lanes[0], outcomes[0], spot)
 
 
 def reach(script, n, ring):
@@ -43,7 +44,7 @@ def valid_reach(script, n, ring):
     """What reach returns, for arguments that are valid."""
     spot = spot_of(script, n, ring)
     _, outcomes = look(outer_lanes(script), spot)
-    return (place_at(outcomes[0][1], spot), place_at(outcomes[-1][2], spot))
+    return (place_at(outcomes[0][0], spot), place_at(outcomes[-1][1], spot))
 
 
 def spread(script, n):
@@ -52,37 +53,20 @@ def spread(script, n):
     check_number(script, n)
     check_known(script)
     rings = n + script.change
-    first = known_bounds(script, n, 1)
-    last = known_bounds(script, n, rings)
-    if is_sure(first) or is_sure(last):
-        # One of the two stays where it is, so the other one alone tells the distance.
-        return (last[1] - first[2], last[2] - first[1])
     near, far = script.cloth[:2]
-    return (min(distances(first, last, (rings - 1) * near)), max(distances(first, last, (rings - 1) * far)))
-
-
-def is_sure(ring_bounds):
-    """Whether a ring with these bounds is surely at one place."""
-    return ring_bounds[1] is not None and ring_bounds[1] == ring_bounds[2]
-
-
-def distances(first, last, apart):
-    """Some of the distances of two rings that were so far apart at first, the least and the greatest among them.
-
-    While both rings come from places further and further to the right, their distance goes steadily one way, until
-    one of them leaves its least place, or comes to its greatest one. So it is enough to look there.
-    """
-    turns = [place for place in first[1:] if place is not None]
-    turns = turns + [place - apart for place in last[1:] if place is not None]
-    if len(turns) == 0:
-        return [apart]
-    return [bounded(turn + apart, last) - bounded(turn, first) for turn in turns]
-
-
-def bounded(place, ring_bounds):
-    """Where a ring with these bounds is if it would be at this place without them."""
-    _, low, high = ring_bounds
-    return clamped(place, place if low is None else low, max(place, low) if high is None else high)
+    least, greatest = (rings - 1) * near, (rings - 1) * far
+    _, first_low, first_high = known_bounds(script, n, 1)
+    _, low, high = known_bounds(script, n, rings)
+    if first_high is None:
+        # Nothing is drawn, so that the rings stay as far apart as they were.
+        return (least, greatest)
+    # Let all gaps be least at first, and all rings come from further and further on the right. Until the first one is
+    # at its greatest place it follows at least as far as the last one does, from then on it stays: just there the
+    # distance is least. Likewise, with the greatest gaps, it is greatest just where the first one leaves its least
+    # place.
+    least = clamped(first_high + least, low, high) - first_high
+    greatest = clamped(first_low + greatest, low, high) - first_low
+    return (least, greatest)
 
 
 def dark(script, n):

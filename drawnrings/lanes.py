@@ -18,14 +18,23 @@ class Step:
 
 
 class Lane:
-    """All steps of a script; `end` and `left` are those of the beginning, as in a step."""
+    """All steps of a script.
 
-    def __init__(self, cloth, end, left, steps):
+    `end` and `left` are those of the beginning, as in a step; `carried` is how far a ring is carried in all.
+    """
+
+    def __init__(self, cloth, moves):
         self.near = cloth[0]
         self.far = cloth[1]
-        self.end = end
-        self.left = left
-        self.steps = steps
+        self.end = cloth[2] if len(cloth) == 3 else None
+        self.left = -gained_on("left", moves)
+        self.carried = carried_by(moves)
+        self.steps = []
+        for index in range(len(moves)):
+            done = moves[:index + 1]
+            end = None if self.end is None else self.end + carried_by(done)
+            ahead = moves[index + 1:]
+            self.steps.append(Step(moves[index], end, -gained_on("left", ahead), -gained_on("right", ahead)))
 
 
 def gained_on(side, moves):
@@ -33,20 +42,14 @@ def gained_on(side, moves):
     return sum([rings_gained(move) for move in moves if move[1] == side])
 
 
+def carried_by(moves):
+    """How far the rail is carried along by these moves."""
+    return sum([move[3] for move in moves if move[0] == "carry"])
+
+
 def lane_of(script, side):
     """The lane of the script if each `some` draws the first ring from this side."""
-    moves = [("draw", side, 1, move[3]) if move[0] == "some" else move for move in script.moves]
-    end = script.cloth[2] if len(script.cloth) == 3 else None
-    left = -gained_on("left", moves)
-    right = -gained_on("right", moves)
-    lane = Lane(script.cloth, end, left, [])
-    for move in moves:
-        left = left + gained_on("left", [move])
-        right = right + gained_on("right", [move])
-        if move[0] == "carry" and end is not None:
-            end = end + move[3]
-        lane.steps.append(Step(move, end, left, right))
-    return lane
+    return Lane(script.cloth, [("draw", side, 1, move[3]) if move[0] == "some" else move for move in script.moves])
 
 
 def outer_lanes(script):

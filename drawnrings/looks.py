@@ -1,8 +1,7 @@
 """Looks: how a ring comes to its place, told at once for all spots at which this is told by the same forms.
 
-An outcome is a triple (way, least, greatest). `least` and `greatest` are the forms of the least and the greatest
-place of the ring, None if there is none. `way` is None for a ring that was hooked on; for another one it is the
-pair of how far it was carried, and of how much its number from the left was greater at first than at the end.
+An outcome is a pair (least, greatest) of the forms of the least and the greatest place of the ring, None if there is
+none.
 """
 
 from drawnrings.forms import lead, raised, tightest, worth
@@ -87,30 +86,13 @@ def limits_from_right(lane, step, cell):
     return tight, greater_form(cell, wide, end)
 
 
-def hooked_at(lane, cell):
-    """The index of the step by which the ring was hooked on, None if it was there at first."""
-    # From the last one on: the numbers that a ring had before it was hooked on tell nothing.
-    for index in reversed(range(len(lane.steps))):
-        step = lane.steps[index]
-        if step.kind == "on":
-            before = (1, 0, step.left - 2) if step.side == "left" else (0, 1, step.right - 2)
-            if not cell.holds(before):
-                return index
-    return None
-
-
 def outcome(lane, cell):
     """The outcome of the lane for the ring at the cell's spot, and for all in what is left of the cell."""
-    hook = hooked_at(lane, cell)
-    if hook is None:
-        least = wall(lane, lane.end, lane.left)
-        greatest = None
-        steps = lane.steps
-    else:
-        _, greatest = limits(lane, lane.steps[hook], cell)
-        least = greatest
-        steps = lane.steps[hook + 1:]
-    for step in steps:
+    # A ring that was hooked on is told as if it had been there before, beyond the others: its hooking draws it, and
+    # leaves it one place, wherever it was.
+    least = wall(lane, lane.end, lane.left)
+    greatest = None
+    for step in lane.steps:
         if step.kind == "carry":
             least = raised(least, step.place)
             greatest = raised(greatest, step.place)
@@ -118,10 +100,7 @@ def outcome(lane, cell):
             low, high = limits(lane, step, cell)
             least = low if least is None else clamped(cell, least, low, high)
             greatest = high if greatest is None else clamped(cell, greatest, low, high)
-    if hook is not None:
-        return None, least, greatest
-    carried = sum([step.place for step in steps if step.kind == "carry"])
-    return (carried, lane.left), least, greatest
+    return least, greatest
 
 
 def look(lanes, spot):
@@ -138,11 +117,10 @@ def place_at(form, spot):
     return worth(form, spot)
 
 
-def bounds_at(told, spot):
-    """The bounds (S, A, B) that this outcome tells at the spot."""
-    way, least, greatest = told
-    low = place_at(least, spot)
-    high = place_at(greatest, spot)
-    if way is None or low is not None and low == high:
+def bounds_at(lane, told, spot):
+    """The bounds (S, A, B) that this outcome of the lane tells at the spot."""
+    low = place_at(told[0], spot)
+    high = place_at(told[1], spot)
+    if low is not None and low == high:
         return (0, low, high)
-    return (way[0], low, high)
+    return (lane.carried, low, high)

@@ -1,11 +1,10 @@
 """How the rings can have stood at first, from what was seen at the end."""
 
-from drawnrings.bounds import spot_of
+from drawnrings.bounds import known_bounds
 from drawnrings.checks import check_number
 from drawnrings.errors import InvalidSeen, TooMany
 from drawnrings.kinds import is_integer
 from drawnrings.lanes import outer_lanes
-from drawnrings.looks import bounds_at, look
 from drawnrings.scripts import check_known, check_script
 from drawnrings.stretches import shared
 
@@ -36,26 +35,20 @@ def starts_seen(script, n, seen):
     check_known(script)
     if n > MOST_STARTS:
         raise TooMany(n)
-    starts = ends_only(script, n)
-    lanes = outer_lanes(script)
+    starts = [(None, None)] * n
+    if len(script.cloth) == 3:
+        # What the end leaves the other rings, the cloth tells by what it leaves the first one.
+        starts[0] = (script.cloth[2], None)
+    left = outer_lanes(script)[0].left
     for ring, place in seen:
-        spot = spot_of(script, n, ring)
-        _, outcomes = look(lanes, spot)
-        stretch = start_of(bounds_at(outcomes[0], spot), place)
+        stretch = start_of(known_bounds(script, n, ring), place)
         if stretch is None:
             return None
-        way = outcomes[0][0]
-        if way is not None:
-            at = ring + way[1] - 1
+        # A ring that is surely at one place tells nothing; it may not even have been there at first.
+        if stretch != (None, None):
+            at = ring + left - 1
             starts[at] = shared(starts[at], stretch)
     return settled_starts(starts, script.cloth)
-
-
-def ends_only(script, n):
-    """The stretches of the places of n rings of which nothing but the end of the rail is known."""
-    if len(script.cloth) == 2:
-        return [(None, None)] * n
-    return [(script.cloth[2] + index * script.cloth[0], None) for index in range(n)]
 
 
 def start_of(ring_bounds, place):

@@ -20,11 +20,16 @@ def first_unlike(lanes, rings):
     Only numbers from `rings` on are looked at; the ring is the least one from the left that comes to unlike places.
     None if there is no such number.
     """
+    one, other = lanes
+    same_way = one.left == other.left and one.carried == other.carried
     told = None
     for left, found in columns(lanes, rings):
         if told is not None and left >= told[0]:
             return told
-        rows = [row for first, last, outcomes in found for row in failing(alike_terms(outcomes), left, first, last)]
+        rows = [
+            row for first, last, outcomes in found
+            for row in failing(alike_terms(outcomes, same_way), left, first, last)
+        ]
         if len(rows) > 0:
             many = left + rows[0][0] - 1
             if told is None or many < told[0]:

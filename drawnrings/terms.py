@@ -28,19 +28,22 @@ def at_least(form, place):
 
 def sure_terms(outcomes):
     """The terms of a ring's place being sure; the outcomes are those of the outer lanes."""
-    least = outcomes[0][1]
-    greatest = outcomes[-1][2]
+    least = outcomes[0][0]
+    greatest = outcomes[-1][1]
     if least is None or greatest is None:
         return None
     return same_worth(least, greatest)
 
 
-def alike_terms(outcomes):
-    """The terms of two lanes leading a ring to the same place, for all standings."""
-    (way, least, greatest), (other_way, other_least, other_greatest) = outcomes
+def alike_terms(outcomes, same_way):
+    """The terms of two lanes leading a ring to the same place, for all standings.
+
+    same_way is whether they take the ring from the same number, and carry it equally far; if they do not, it is at
+    the same place only where it hangs on no standing.
+    """
+    (least, greatest), (other_least, other_greatest) = outcomes
     pairs = [(least, other_least), (greatest, other_greatest)]
-    if way != other_way:
-        # Rings that came there in two ways are at the same place only where it hangs on no standing.
+    if not same_way:
         if greatest is None:
             return None
         pairs.append((least, greatest))

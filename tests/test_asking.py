@@ -232,6 +232,17 @@ class From(Case):
         self.assertIsNone(always_sure(CHILD))
         self.assertEqual(always_sure(Script("cloth 2 5", "some to 9", "left 1 to 0", "right 1 to 0")), 1)
 
+    def test_always_sure_where_rings_are_sure_with_some_lesser_numbers_too(self):
+        script = Script("cloth 2 5 from 2", "right 3 to 6", "carry -12", "on right 9")
+        wanted = [model.outer_reaches(script.cloth, script.rows[1:], n) for n in range(3, 30)]
+        loose = [n for n, row in enumerate(wanted, start=3) if any(low != high for low, high in row)]
+        self.assertEqual(loose, [4, 6, 7, 8, 9])
+        self.assertEqual(always_sure(script), 10)
+        script = Script("cloth 1 4 from -12", "off right", "right 5 to 9", "right 3 to -2")
+        self.assertEqual(sure(script, 14), ((1, 13),))
+        self.assertEqual(sure(script, 21), ((1, 20),))
+        self.assertIsNone(always_sure(script))
+
     def test_dark_from_beside_dark(self):
         for rows in pseudo_scripts("dark from", 150, 10, 60, with_some=True):
             script = Script(*rows)

@@ -98,6 +98,17 @@ class Faults(Case):
                 with self.subTest(rows, start=start):
                     self.assertEqual(fault(script, ("still", start)), wanted)
 
+    def test_still_where_some_lesser_numbers_are_so_too(self):
+        script = Script("cloth 2 5 from 2", "right 3 to 6", "carry -12", "on right 9")
+        told = [fault(script, ("still", start)) for start in range(1, 12)]
+        self.assertEqual(told, [4, 4, 4, 4, 6, 6, 7, 8, 9, None, None])
+        script = Script("cloth 1 4 from -12", "off right", "right 5 to 9", "right 3 to -2")
+        told = [fault(script, ("still", start)) for start in (1, 11, 13, 14, 21, 22, GREAT)]
+        self.assertEqual(told, [11, 11, 13, 22, 22, 22, GREAT])
+        script = Script("cloth 2 5 from -4", "some to 10", "carry -10", "right 3 to 4", "right 2 to 0")
+        told = [fault(script, ("still", start)) for start in (1, 6, 8, 9, 10, 11, GREAT)]
+        self.assertEqual(told, [6, 6, 8, 11, 11, 11, GREAT])
+
     def test_alike(self):
         scripts = [Script(*rows) for rows in pseudo_scripts("alike", 40, 4, 5, with_some=True)]
         for one, other in itertools.product(scripts[:20], scripts):
