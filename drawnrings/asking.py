@@ -67,7 +67,8 @@ def parting(one, other):
 
 def script_without(script, index):
     """The script without the row with this index, which is that of a move."""
-    return Script(*[row for at, row in enumerate(script.rows) if at != index])
+    rows = [row for at, row in enumerate(script.rows) if at != index]
+    return Script(*rows)
 
 
 def is_needless(script, index):

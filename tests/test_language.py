@@ -1,4 +1,4 @@
-"""The rules of LANGUAGE.md that can be asked of the text of the files: L1, L2, L4, L7, L8, L10, L14 and L25."""
+"""The rules of LANGUAGE.md that can be asked of the text of the files: L1, L2, L4, L6, L7, L8, L10, L14 and L25."""
 
 import ast
 import builtins
@@ -45,6 +45,19 @@ def trees():
 
 def functions(nodes):
     return [node for node in nodes if isinstance(node, ast.FunctionDef)]
+
+
+def is_plain(node, properties):
+    """Whether this is a name, an attribute off a name that is no property, a literal, or a row of such."""
+    if isinstance(node, (ast.Name, ast.Constant)):
+        return True
+    if isinstance(node, ast.Attribute):
+        return isinstance(node.value, ast.Name) and node.attr not in properties
+    if isinstance(node, (ast.List, ast.Tuple)):
+        return all(is_plain(told, properties) for told in node.elts)
+    if isinstance(node, ast.Dict):
+        return all(told is not None and is_plain(told, properties) for told in [*node.keys, *node.values])
+    return False
 
 
 class Language(unittest.TestCase):
@@ -104,6 +117,42 @@ class Language(unittest.TestCase):
                     with self.subTest(name, function=node.name):
                         setter = isinstance(decorator, ast.Attribute) and decorator.attr == "setter"
                         self.assertTrue(setter or decorator.id in DECORATORS)
+
+    def test_stars_in_calls(self):
+        """L7: behind a star, and beside `**`, only names, attributes off a name, literals, and rows of these."""
+        properties = {
+            node.name for _, nodes in trees() for node in functions(nodes)
+            if "property" in [getattr(decorator, "id", "") for decorator in node.decorator_list]
+        }
+        for name, nodes in trees():
+            for node in [node for node in nodes if isinstance(node, ast.Call)]:
+                told = [row.value for row in node.args if isinstance(row, ast.Starred)]
+                pairs = [row.value for row in node.keywords if row.arg is None]
+                if pairs:
+                    told += [*pairs, *[row for row in node.args if not isinstance(row, ast.Starred)]]
+                with self.subTest(name, line=node.lineno):
+                    self.assertTrue(all(is_plain(value, properties) for value in told))
+                    self.assertTrue(not pairs or len(node.keywords) == 1)
+
+    def test_leaving_a_with_statement(self):
+        """L6: `__exit__`, and what it calls, only assigns, and asks whether there is an error."""
+        allowed = (ast.Pass, ast.Return, ast.Assign, ast.AugAssign, ast.If, ast.Expr)
+        for name, nodes in trees():
+            exits = [node for node in functions(nodes) if node.name == "__exit__"]
+            called = [
+                node.func.attr for told in exits for node in ast.walk(told)
+                if isinstance(node, ast.Call) and isinstance(node.func, ast.Attribute)
+            ]
+            for told in [*exits, *[node for node in functions(nodes) if node.name in called]]:
+                rows = [node for node in ast.walk(told) if isinstance(node, ast.stmt) and node is not told]
+                with self.subTest(name, function=told.name):
+                    self.assertEqual([row for row in rows if not isinstance(row, allowed)], [])
+                    barred = (ast.Subscript, ast.BinOp, ast.JoinedStr, ast.ListComp, ast.Starred, ast.NamedExpr)
+                    self.assertEqual([node for node in ast.walk(told) if isinstance(node, barred)], [])
+                    values = [row.value for row in rows if isinstance(row, ast.Assign)]
+                    self.assertTrue(all(is_plain(value, ()) for value in values))
+                    read = {node.id for node in ast.walk(told) if isinstance(node, ast.Name)}
+                    self.assertFalse(read & {"value", "trace"})
 
     def test_methods_that_are_called(self):
         own = {node.name for _, nodes in trees() for node in functions(nodes)}
