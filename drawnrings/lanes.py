@@ -7,14 +7,15 @@ class Step:
     """A move, and what there is behind it.
 
     `end` is where the rail ends, None if it does not. `left` and `right` are by how much a ring's number from the
-    left, and from the right, is greater behind the move than at the end.
+    left, and from the right, is greater behind the move than at the end. `ahead` is how far a ring is carried yet.
     """
 
-    def __init__(self, move, end, left, right):
+    def __init__(self, move, end, done, ahead):
         self.kind, self.side, self.ring, self.place = move
-        self.end = end
-        self.left = left
-        self.right = right
+        self.end = None if end is None else end + carried_by(done)
+        self.left = -gained_on("left", ahead)
+        self.right = -gained_on("right", ahead)
+        self.ahead = carried_by(ahead)
 
 
 class Lane:
@@ -29,12 +30,9 @@ class Lane:
         self.end = cloth[2] if len(cloth) == 3 else None
         self.left = -gained_on("left", moves)
         self.carried = carried_by(moves)
-        self.steps = []
-        for index in range(len(moves)):
-            done = moves[:index + 1]
-            end = None if self.end is None else self.end + carried_by(done)
-            ahead = moves[index + 1:]
-            self.steps.append(Step(moves[index], end, -gained_on("left", ahead), -gained_on("right", ahead)))
+        self.steps = [
+            Step(moves[index], self.end, moves[:index + 1], moves[index + 1:]) for index in range(len(moves))
+        ]
 
 
 def gained_on(side, moves):

@@ -11,12 +11,11 @@ SIDES = ("left", "right")
 
 
 def written(word):
-    """The integer that this word writes, None if it writes none that a row may have."""
-    digits = word.removeprefix("-")
-    # Long words are refused unread, as Python refuses to turn very long ones into integers.
-    if len(digits) > len(str(MOST_PLACE)) or not digits.isdecimal():
+    """The integer that this word writes just as Python writes it, None if it writes none so."""
+    try:
+        number = int(word)
+    except ValueError:
         return None
-    number = int(word)
     if str(number) != word:
         return None
     return number

@@ -14,22 +14,31 @@ def failing(terms, left, first, last):
     return without((first, last), stretch)
 
 
+def unlike_rows(lanes, rings):
+    """Of each column of all numbers of rings from `rings` on: pairs (left, rows).
+
+    The rows are the stretches of the M for which two lanes lead the ring at the spot (left, M) to unlike places.
+    """
+    one, other = lanes
+    same_way = one.left == other.left and one.carried == other.carried
+    for left, found in columns(lanes, rings):
+        rows = [
+            row for first, last, outcomes in found
+            for row in failing(alike_terms(outcomes, same_way), left, first, last)
+        ]
+        yield (left, rows)
+
+
 def first_unlike(lanes, rings):
     """The pair (m, ring) for the least number m of rings at the end with which two lanes lead to unlike standings.
 
     Only numbers from `rings` on are looked at; the ring is the least one from the left that comes to unlike places.
     None if there is no such number.
     """
-    one, other = lanes
-    same_way = one.left == other.left and one.carried == other.carried
     told = None
-    for left, found in columns(lanes, rings):
+    for left, rows in unlike_rows(lanes, rings):
         if told is not None and left >= told[0]:
             return told
-        rows = [
-            row for first, last, outcomes in found
-            for row in failing(alike_terms(outcomes, same_way), left, first, last)
-        ]
         if len(rows) > 0:
             many = left + rows[0][0] - 1
             if told is None or many < told[0]:

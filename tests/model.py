@@ -155,3 +155,85 @@ def unlike_rings(cloth, one, other, rings):
         if told_one != told_other or number != other_number and not sure:
             told.append(ring)
     return told
+
+
+def carried(moves):
+    """How far a ring is carried by these moves."""
+    return sum(int(move[6:]) for move in moves if move.startswith("carry "))
+
+
+def number_more(side, moves):
+    """By how much a ring's number from this side is greater ahead of these moves than behind them."""
+    return moves.count(f"off {side}") - sum(move.startswith(f"on {side} ") for move in moves)
+
+
+def drawn_by(side, move):
+    """The pair (J, P) of a move that draws the J-th ring from this side to P, None if it does not."""
+    words = move.split(" ")
+    if words[0] == side:
+        return int(words[1]), int(words[3])
+    if words[:2] == ["on", side]:
+        return 1, int(words[2])
+    return None
+
+
+def forms(cloth, moves):
+    """The left forms and the right forms of a known script, as pairs (factor, rest)."""
+    near, far = cloth[:2]
+    end = cloth[2] + carried(moves) if len(cloth) == 3 else None
+    lefts = []
+    rights = []
+    if end is not None:
+        lefts.append((near, end + (number_more("left", moves) - 1) * near))
+    for at, move in enumerate(moves):
+        behind = moves[at + 1:]
+        more = number_more("left", behind)
+        if drawn_by("left", move) is not None:
+            ring, place = drawn_by("left", move)
+            goal = place + carried(behind)
+            if end is not None and goal < end + (ring - 1) * near:
+                goal = end + (ring - 1) * near
+            lefts += [(pace, goal + (more - ring) * pace) for pace in (near, far)]
+        if drawn_by("right", move) is not None:
+            ring, place = drawn_by("right", move)
+            goal = place + carried(behind)
+            rights += [(pace, goal - (number_more("right", behind) - ring) * pace) for pace in (near, far)]
+            if end is not None:
+                lefts += [(near, end + (more - 1) * near + less * (far - near)) for less in range(ring)]
+    return lefts, rights
+
+
+def settled(scripts, left, right):
+    """Whether known scripts, pairs (cloth, moves), are settled together at (left, right)."""
+    told = [forms(cloth, moves) for cloth, moves in scripts]
+    lefts = [form for pair in told for form in pair[0]]
+    rights = [form for pair in told for form in pair[1]]
+
+    def at_left(form, number):
+        return form[0] * number + form[1]
+
+    def at_right(form, number):
+        return form[1] - form[0] * number
+
+    if left < 11 or right < 11:
+        return False
+    for one, other in itertools.product(lefts, repeat=2):
+        if one[0] > other[0] and at_left(one, left) < at_left(other, left):
+            return False
+    for one, other in itertools.product(rights, repeat=2):
+        if one[0] > other[0] and at_right(one, right) > at_right(other, right):
+            return False
+    for one, other in itertools.product(lefts, rights):
+        if at_left(one, left) < at_right(other, 1) or at_left(one, 1) < at_right(other, right):
+            return False
+    return True
+
+
+def surely_covered(cloth, moves, a, b, rings):
+    told = bounds(cloth, moves, rings)
+    return told[0][2] is not None and told[0][2] <= a and told[-1][1] >= b
+
+
+def surely_free(cloth, moves, a, b, rings):
+    told = bounds(cloth, moves, rings)
+    return told[-1][2] is not None and told[-1][2] <= a or told[0][1] is not None and told[0][1] >= b
