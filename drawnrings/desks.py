@@ -61,10 +61,19 @@ class Moment:
 
 
 class Desk:
-    """A desk, which can take back its changes. `now` is its moment."""
+    """A desk, which can take back its changes.
+
+    Of the moments in the tuple `moments` it is at the one with the index `at`: a trial that fails gives it both.
+    """
 
     def __init__(self):
-        self.now = Moment({}, (), None)
+        self.moments = (Moment({}, (), None),)
+        self.at = 0
+
+    @property
+    def now(self):
+        """The moment of the desk."""
+        return self.moments[self.at]
 
     @property
     def names(self):
@@ -126,7 +135,7 @@ class Desk:
         """Take back the last change that was not taken back."""
         if self.now.before is None:
             raise NothingToUndo()
-        self.now = self.now.before
+        self._go_to(self.now.before)
 
     def trial(self):
         """For a `with` statement: the desk is as it was before if its rows end with an exception."""
@@ -144,7 +153,12 @@ class Desk:
 
     def _become(self, scripts, wanted):
         """Have these scripts and wishes from now on."""
-        self.now = Moment(scripts, wanted, self.now)
+        self._go_to(Moment(scripts, wanted, self.now))
+
+    def _go_to(self, moment):
+        """Be at this moment, and at no trial's."""
+        self.moments = (moment,)
+        self.at = 0
 
     def __len__(self):
         return len(self.now.scripts)
@@ -158,39 +172,31 @@ class Desk:
         return type(other) is Desk and self is other
 
 
-class Entry:
-    """That the rows of a trial began: the moment of the desk that is to come back, and the entry around this one."""
-
-    def __init__(self, start, around):
-        self.start = start
-        self.around = around
-
-
 class Trial:
-    """A desk that is tried; its rows may stand within its own rows again, so it keeps all that began and didn't end."""
+    """A desk that is tried; its rows may stand within its own rows again.
+
+    `_starts` are the moments at which its rows began; the first `_running` of these are of rows that didn't end yet,
+    each within those before.
+    """
 
     def __init__(self, desk):
         self._desk = desk
-        self._start = None
-        self._entry = None
+        self._starts = ()
+        self._running = 0
 
     def __enter__(self):
-        # What the rows around these began with waits in the new entry.
-        self._entry = Entry(self._start, self._entry)
-        self._start = self._desk.now
+        # __exit__ can do little more than count, so what ended is left out here: in a new tuple, as the desk may be at
+        # a moment of the old one.
+        self._starts = self._starts[:self._running] + (self._desk.now,)
+        self._running += 1
         return self._desk
 
     def __exit__(self, kind, value, trace):
         desk = self._desk
+        self._running -= 1
         if kind is not None:
-            desk.now = self._start
-        self.leave()
-
-    def leave(self):
-        """Go back to the rows around those that end."""
-        entry = self._entry
-        self._start = entry.start
-        self._entry = entry.around
+            desk.moments = self._starts
+            desk.at = self._running
 
     def __eq__(self, other):
         # As with desks: a trial is equal to itself alone.

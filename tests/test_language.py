@@ -6,6 +6,7 @@ import pathlib
 import unittest
 
 import drawnrings
+from tests.leaving import Leaving, leaving_of
 
 FOLDER = pathlib.Path(drawnrings.__file__).parent
 
@@ -135,24 +136,43 @@ class Language(unittest.TestCase):
                     self.assertTrue(not pairs or len(node.keywords) == 1)
 
     def test_leaving_a_with_statement(self):
-        """L6: `__exit__`, and what it calls, only assigns, and asks whether there is an error."""
-        allowed = (ast.Pass, ast.Return, ast.Assign, ast.AugAssign, ast.If, ast.Expr)
+        """L6 With: the rows of each `__exit__`, and of the methods that it calls, are such as may stand there."""
+        found = []
         for name, nodes in trees():
-            exits = [node for node in functions(nodes) if node.name == "__exit__"]
-            called = [
-                node.func.attr for told in exits for node in ast.walk(told)
-                if isinstance(node, ast.Call) and isinstance(node.func, ast.Attribute)
-            ]
-            for told in [*exits, *[node for node in functions(nodes) if node.name in called]]:
-                rows = [node for node in ast.walk(told) if isinstance(node, ast.stmt) and node is not told]
-                with self.subTest(name, function=told.name):
-                    self.assertEqual([row for row in rows if not isinstance(row, allowed)], [])
-                    barred = (ast.Subscript, ast.BinOp, ast.JoinedStr, ast.ListComp, ast.Starred, ast.NamedExpr)
-                    self.assertEqual([node for node in ast.walk(told) if isinstance(node, barred)], [])
-                    values = [row.value for row in rows if isinstance(row, ast.Assign)]
-                    self.assertTrue(all(is_plain(value, ()) for value in values))
-                    read = {node.id for node in ast.walk(told) if isinstance(node, ast.Name)}
-                    self.assertFalse(read & {"value", "trace"})
+            for shape in [node for node in nodes if isinstance(node, ast.ClassDef)]:
+                leaving = Leaving(shape)
+                found += [name] if leaving.methods else []
+                with self.subTest(name, shape=shape.name):
+                    self.assertEqual(leaving.wrong(), [])
+        self.assertEqual(found, ["desks.py"])
+
+    def test_what_may_not_stand_where_a_with_statement_is_left(self):
+        for row in (
+            "pass", "return", "return None", "return False", "self.a = 0", "self.a = self.b", "self.a = (self.b, 'x')",
+            "self.a = [self.b + 1]", "self.a = self.b - 1", "self.a -= 1", "self.a += 1", "self.a += 'x'",
+            "self.rows.append(self.b)", "self.rows.clear()", "net = self.net\nnet.a = self.b", "net = self.net",
+            "net = self.net\nnet.append(1)", "if kind is None:\n pass", "if kind is not None:\n self.a = self.b",
+            "if kind is None and not (kind is None or kind is not None):\n self.a = 0\nelse:\n pass", "self.shut()",
+        ):
+            with self.subTest(row):
+                self.assertEqual(leaving_of(row).wrong(), [])
+        for row in (
+            "net = self.net\nentry = self.entry", "net = self.net\nself.a = net.b", "net = self.net.a", "a = 1",
+            "self.a = self.rows[0]", "self.a = self.rows.pop()", "self.rows.pop()", "self.a = -1", "self.a = value",
+            "self.rows[0] = 1", "del self.rows[0]", "self.a -= self.b", "self.a = self.b - self.c", "self.a = kind",
+            "self.a = not self.b", "self.a = self.b = 0", "self.a, self.b = 0, 0", "return True", "return self.a",
+            "raise kind", "self.net.leave()", "leave()", "self.rows.append(value)", "self.a = f'{self.b}'",
+            "if kind:\n pass", "if value is None:\n pass", "if self.a == 0:\n pass", "if kind is self.a:\n pass",
+            "if self.leave():\n pass", "for a in self.rows:\n pass", "while self.a:\n pass", "self.a: int = 0",
+            "self.open()", "self.shut(1)", "if self.a:\n pass", "if not self.a:\n pass",
+            "if kind is None or value:\n pass",
+        ):
+            with self.subTest(row):
+                self.assertNotEqual(leaving_of(row).wrong(), [])
+        # The rows of a method that is called count as those of __exit__.
+        self.assertEqual(leaving_of("net = self.net\nself.shut()", "net.a = 0").wrong(), [])
+        self.assertNotEqual(leaving_of("self.shut()", "entry = self.entry\nself.a = entry.b").wrong(), [])
+        self.assertNotEqual(leaving_of("net = self.net\nself.shut()", "entry = self.entry").wrong(), [])
 
     def test_methods_that_are_called(self):
         own = {node.name for _, nodes in trees() for node in functions(nodes)}

@@ -1,5 +1,6 @@
 """drawnrings.desks: trials, by `with` and by `tried`."""
 
+import random
 import unittest
 
 from drawnrings.desks import Desk
@@ -264,6 +265,150 @@ class Within(DeskCase):
                 desk.lift(0)
                 raise Stop()
         self.assertEqual(state(desk), state(filled()))
+
+
+    def test_the_same_object_when_inner_rows_failed_and_nothing_was_done_since(self):
+        for deep in range(1, 5):
+            desk = filled()
+            trial = desk.trial()
+
+            def go(left):
+                with trial:
+                    desk.lift(0)
+                    if left == 0:
+                        raise Stop()
+                    try:
+                        go(left - 1)
+                    except Stop:
+                        pass
+
+            desk.wish(("hall", ("covers", 0, 20, 5)))
+            desk.wish(("hall", ("covers", 0, 20, 5)))
+            with self.subTest(deep):
+                # All rows but the innermost ones end well.
+                go(deep)
+                self.assertEqual((len(desk.wishes), desk.changes), (5 - deep, 9 + deep))
+                after = state(desk)
+                with trial:
+                    self.assertEqual(state(desk), after)
+                self.assertEqual(state(desk), after)
+                with self.assertRaises(Stop):
+                    with trial:
+                        self.assertEqual(state(desk), after)
+                        raise Stop()
+                self.assertEqual(state(desk), after)
+                with trial:
+                    desk.undo()
+                self.assertEqual((len(desk.wishes), desk.changes), (6 - deep, 8 + deep))
+
+    def test_rows_of_two_objects_that_do_not_end_in_turn(self):
+        def rows(trial, name):
+            with trial:
+                desk.put(name, NIGHT)
+                yield
+                raise Stop()
+
+        for first, names in ((0, ("a", "attic", "hall")), (1, ("attic", "hall"))):
+            desk = filled()
+            running = [rows(desk.trial(), "a"), rows(desk.trial(), "b")]
+            for told in running:
+                next(told)
+            with self.subTest(first):
+                for told in (running[first], running[1 - first]):
+                    with self.assertRaises(Stop):
+                        next(told)
+                self.assertEqual((desk.names, desk.changes), (names, 5 + len(names)))
+
+
+class Plain:
+    """A desk as lists of all that it was, with trials as copies; its wishes all hold."""
+
+    def __init__(self):
+        self.past = [((), ())]
+
+    def become(self, names, wishes):
+        self.past.append((tuple(sorted(names)), wishes))
+
+    def told(self):
+        names, wishes = self.past[-1]
+        return names, wishes, len(self.past) - 1
+
+
+class Compared(DeskCase):
+    """Rows of trials within trials by chance, some of them failing, beside a plain desk."""
+
+    def check_alike(self):
+        self.assertEqual((self.desk.names, self.desk.wishes, self.desk.changes), self.plain.told())
+
+    def do_something(self):
+        names, wishes = self.plain.past[-1]
+        kind = self.told.choice(("put", "put", "drop", "wish", "lift", "undo", "undo"))
+        if kind == "put":
+            name = self.told.choice("abcdef")
+            self.desk.put(name, NIGHT)
+            self.plain.become({*names, name}, wishes)
+        elif kind == "drop":
+            free = [name for name in names if name not in [wish[0] for wish in wishes]]
+            if free:
+                name = self.told.choice(free)
+                self.desk.drop(name)
+                self.plain.become(set(names) - {name}, wishes)
+        elif kind == "wish" and names:
+            wish = (self.told.choice(names), ("covers", 0, 20, 5))
+            self.desk.wish(wish)
+            self.plain.become(names, (*wishes, wish))
+        elif kind == "lift" and wishes:
+            index = self.told.randrange(len(wishes))
+            self.desk.lift(index)
+            self.plain.become(names, wishes[:index] + wishes[index + 1:])
+        elif kind == "undo" and len(self.plain.past) > 1:
+            self.desk.undo()
+            self.plain.past.pop()
+
+    def go(self, deep):
+        """Do things, some of them within a trial that may fail; what fails is caught here, or further out."""
+        for _ in range(self.told.randrange(4)):
+            if self.told.random() < 0.5:
+                self.do_something()
+                self.check_alike()
+            elif deep < 6:
+                self.go_within(deep)
+
+    def go_within(self, deep):
+        past = list(self.plain.past)
+        caught = self.told.random() < 0.6
+        try:
+            with self.told.choice(self.trials) as desk:
+                self.assertIs(desk, self.desk)
+                self.go(deep + 1)
+                if self.told.random() < 0.4:
+                    raise Stop()
+        except Stop:
+            self.plain.past = past
+            if self.told.random() < 0.7:
+                self.check_alike()
+            if not caught:
+                raise
+        if self.told.random() < 0.5:
+            self.check_alike()
+
+    def test_by_chance(self):
+        self.told = random.Random("trials")
+        for many in (1, 1, 2, 3):
+            for number in range(150):
+                self.desk, self.plain = Desk(), Plain()
+                self.trials = [self.desk.trial() for _ in range(many)]
+                with self.subTest(many=many, number=number):
+                    for _ in range(4):
+                        try:
+                            self.go(0)
+                        except Stop:
+                            pass
+                        self.check_alike()
+                    while self.desk.changes > 0:
+                        self.desk.undo()
+                        self.plain.past.pop()
+                        self.check_alike()
 
 
 class Tried(DeskCase):
